@@ -1,0 +1,1 @@
+"""Pleatpunch: a strip is folded, punched and worn."""

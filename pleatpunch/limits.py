@@ -1,0 +1,3 @@
+"""The bounds that several files share."""
+
+MOST_CELLS = 200
