@@ -1,19 +1,12 @@
 """Foldings: rising lists of creases, and where the cells come to lie by them."""
 
 from pleatpunch.errors import NoFolds
-from pleatpunch.limits import MOST_CELLS
+from pleatpunch.limits import MOST_CELLS, is_rising
 
 
 def is_folding(many, folds):
     """Whether the list is a folding of a strip of so many cells."""
-    if not 1 <= many <= MOST_CELLS:
-        return False
-    ahead = -1
-    for crease in folds:
-        if not ahead < crease < many - 1:
-            return False
-        ahead = crease
-    return True
+    return 1 <= many <= MOST_CELLS and is_rising(folds, many - 1)
 
 
 def places(many, folds):

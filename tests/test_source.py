@@ -16,6 +16,15 @@ INTERFACE = {
     "foldings.py": {
         "is_folding": ["many", "folds"], "places": ["many", "folds"],
         "cells_at": ["many", "folds", "place"], "stacks": ["many", "folds"]},
+    "punches.py": {
+        "can_be": ["many", "cells"], "odd_ones": ["cells"], "least_folding": ["many", "cells"],
+        "counted": ["many", "cells"], "all_foldings": ["many", "cells"], "creased": ["many", "cells"],
+        "ways": ["many", "plan"]},
+    "wishes.py": {
+        "fewest": ["strip", "wish"], "plan": ["strip", "wish"], "tight": ["strip", "wish"],
+        "worth": ["strip", "wish", "stretch"], "is_plan": ["strip", "wish", "plan"]},
+    "wear.py": {name: ["strip", "wish"] for name in ("all_tight", "cheaper", "dearer", "helpful")},
+    "seen.py": {"fewest_seen": ["counts"], "made": ["counts", "many"]},
 }
 LIBRARY = ("heapq", "math", "itertools", "collections")
 
