@@ -14,17 +14,7 @@ def places(many, folds):
     # The message leaves out the numbers: one of very many figures can't be shown.
     if not is_folding(many, folds):
         raise NoFolds("no folding of so many cells")
-    creases = set(folds)
-    place = 0
-    way = 1
-    laid = [place]
-    for cell in range(many - 1):
-        if cell in creases:
-            way = -way
-        else:
-            place += way
-        laid.append(place)
-    return laid
+    return walked(many - 1, folds)
 
 
 def cells_at(many, folds, place):
@@ -40,3 +30,18 @@ def stacks(many, folds):
     for cell, place in enumerate(laid):
         piles[place - least].append(cell)
     return piles
+
+
+def walked(steps, folds):
+    """The place of cell 0 and, after each of so many steps, that of the cell come to."""
+    creases = set(folds)
+    place = 0
+    way = 1
+    laid = [place]
+    for cell in range(steps):
+        if cell in creases:
+            way = -way
+        else:
+            place += way
+        laid.append(place)
+    return laid

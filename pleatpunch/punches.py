@@ -37,7 +37,7 @@ def counted(many, cells):
     _check(many, cells)
     total = 1
     for steps, back in _parts(many, cells):
-        total *= _count_walks(steps, back)
+        total *= count_walks(steps, back)
     return total
 
 
@@ -61,7 +61,7 @@ def creased(many, cells):
         # The part ahead of the list is walked from the first cell down to cell 0.
         if at == 0:
             turns.reverse()
-        share = total // _count_walks(steps, back)
+        share = total // count_walks(steps, back)
         told.extend([share * times for times in turns])
     return told
 
@@ -70,6 +70,16 @@ def ways(many, plan):
     """For each list of the plan its least folding and its place there; NoList of the first that can't be had."""
     # No crease is ahead of the first cell, so the place where it lies has its number.
     return [(least_folding(many, cells), cells[0]) for cells in plan]
+
+
+def count_walks(steps, back):
+    """How many walks of so many steps never go below where they began; where back is so, that end there."""
+    # Each known by a mirrored walk: the middle binomial number, and Catalan's where the walk goes back.
+    if not back:
+        return comb(steps, steps // 2)
+    if steps % 2 == 1:
+        return 0
+    return comb(steps, steps // 2) // (steps // 2 + 1)
 
 
 def _check(many, cells):
@@ -83,23 +93,13 @@ def _parts(many, cells):
     return [(cells[0], False), *gaps, (many - 1 - cells[-1], False)]
 
 
-def _count_walks(steps, back):
-    """How many walks of so many steps never go below where they began; where back is so, that end there."""
-    # Each known by a mirrored walk: the middle binomial number, and Catalan's where the walk goes back.
-    if not back:
-        return comb(steps, steps // 2)
-    if steps % 2 == 1:
-        return 0
-    return comb(steps, steps // 2) // (steps // 2 + 1)
-
-
 def _count_turns(steps, back):
     """How many of these walks turn at each crease, the first crease behind a step up to where they begin."""
     if back and steps == 0:
         return [1]
     # A turn is two steps, there and back. Without them the walk is of two steps fewer: any such one where the
     # turn is at the top, any but one that stands there just where it began where the turn is at the bottom.
-    within = [2 * _count_walks(steps - 2, back) - _count_walks(at - 1, True) * _count_walks(steps - 1 - at, back)
+    within = [2 * count_walks(steps - 2, back) - count_walks(at - 1, True) * count_walks(steps - 1 - at, back)
               for at in range(1, steps)]
     # Neither the first step nor the one down from where the walk came back to can turn.
     turns = [0, *within, 0]
@@ -117,7 +117,7 @@ def _creases_of_parts(many, cells):
 
 
 def _walks(steps, back):
-    """The walks of which _count_walks tells the number, each a list of steps, 1 up and -1 down."""
+    """The walks of which count_walks tells the number, each a list of steps, 1 up and -1 down."""
     found = [([], 0)]
     for left in range(steps - 1, -1, -1):
         found = [([*walk, step], height + step) for walk, height in found for step in (-1, 1)

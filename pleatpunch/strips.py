@@ -1,7 +1,7 @@
 """Strips: lists of cells (holed, left), their texts, and how they are put together."""
 
 from pleatpunch.errors import NoCell, NoText
-from pleatpunch.limits import MOST_CELLS
+from pleatpunch.limits import MOST_CELLS, MOST_PASSES, is_number
 
 
 def read(text):
@@ -37,17 +37,9 @@ def turned(strip):
 
 def _cell(word):
     figures = word.removesuffix("o")
-    if not _is_passes(figures):
+    if not is_number(figures) or int(figures) > MOST_PASSES:
         raise NoText(f"not written as a cell: {word}")
     return (figures != word, int(figures))
-
-
-def _is_passes(figures):
-    # Two figures reach just to the most passes, 99, and int() refuses thousands of figures.
-    if len(figures) > 2 or not figures.isdecimal():
-        return False
-    # Written anew it is the same just where no 0 is ahead and each figure is from 0 to 9.
-    return figures == str(int(figures))
 
 
 def _word(holed, left):

@@ -11,7 +11,7 @@ from pleatpunch.punches import can_be
 def fewest(strip, wish):
     """How many punches the fewest plan has, or None where there is no plan; NoWish of what is no wish."""
     bounds = bounds_of(strip, wish)
-    return None if _cell_without_pass(strip, wish) is not None else _greatest_worth(bounds)
+    return None if cell_without_pass(strip, wish) is not None else _greatest_worth(bounds)
 
 
 def plan(strip, wish):
@@ -20,14 +20,9 @@ def plan(strip, wish):
     many = fewest(strip, wish)
     if many is None:
         return None
-    ranges = _ranges_of_stands(bounds, many)
-    times = []
+    ranges = ranges_of_stands(bounds, (0, many), many)
     stand = ranges[0][0]
-    for cell, (few, _) in enumerate(bounds):
-        least, greatest = ranges[cell + 1]
-        times.append(max(few, least - stand) if cell % 2 == 0 else max(few, stand - greatest))
-        stand = next_stand(stand, cell, times[cell])
-    return punches_of_walk(ranges[0][0], times, many)
+    return punches_of_walk(stand, times_of_walk(stand, bounds, ranges), many)
 
 
 def tight(strip, wish):
@@ -35,30 +30,21 @@ def tight(strip, wish):
     bounds = bounds_of(strip, wish)
     if len(wish) == 0:
         return None
-    cell = _cell_without_pass(strip, wish)
+    cell = cell_without_pass(strip, wish)
     return tight_stretches(bounds)[0] if cell is None else cell
 
 
 def worth(strip, wish, stretch):
     """The worth of the stretch: its punches at least at the one parity, less those at most at the other one."""
     first, last, parity = stretch
-    total = 0
-    for cell, (few, most) in enumerate(bounds_of(strip, wish)):
-        if first <= cell <= last:
-            total += few if cell % 2 == parity else -most
-    return total
+    bounds = bounds_of(strip, wish)
+    return worth_of(bounds, [cell for cell in range(len(bounds)) if first <= cell <= last], parity)
 
 
 def is_plan(strip, wish, plan):
     """Whether the lists are punches of a plan for the wish, the fewest or not; NoWish of what is no wish."""
     bounds = bounds_of(strip, wish)
-    times = [0] * len(strip)
-    for cells in plan:
-        if not can_be(len(strip), cells):
-            return False
-        for cell in cells:
-            times[cell] += 1
-    return all([few <= many <= most for (few, most), many in zip(bounds, times)])
+    return all([can_be(len(strip), cells) for cells in plan]) and keeps_to(bounds, plan)
 
 
 def bounds_of(strip, wish):
@@ -70,6 +56,29 @@ def bounds_of(strip, wish):
     for cell, (holed, left) in enumerate(strip):
         bounds.append((1 if cell in wished else 0, left if holed or cell in wished else 0))
     return bounds
+
+
+def cell_without_pass(strip, wish):
+    """The first wished cell that has no pass, or None."""
+    return next((cell for cell in wish if strip[cell][1] == 0), None)
+
+
+def worth_of(bounds, cells, parity):
+    """What punches the cells of the parity need at least, less those that the others of the cells let at most."""
+    total = 0
+    for cell in cells:
+        few, most = bounds[cell]
+        total += few if cell % 2 == parity else -most
+    return total
+
+
+def keeps_to(bounds, plan):
+    """Whether the punches have each cell as often as it may be punched."""
+    times = [0] * len(bounds)
+    for cells in plan:
+        for cell in cells:
+            times[cell] += 1
+    return all([few <= many <= most for (few, most), many in zip(bounds, times)])
 
 
 def tight_stretches(bounds):
@@ -84,6 +93,33 @@ def tight_stretches(bounds):
             worths[1 - last % 2] -= most
             found.extend([(first, last, parity) for parity in (0, 1) if worths[parity] == best])
     return found
+
+
+def ranges_of_stands(bounds, end, many):
+    """Ahead of each cell the least and the greatest stand, up to so many, from which the walk can go on to the end.
+
+    The end is such a range itself, the last one; where a least stand is above the greatest, no walk goes there.
+    """
+    least, greatest = end
+    ranges = [end]
+    for cell in range(len(bounds) - 1, -1, -1):
+        few, most = bounds[cell]
+        if cell % 2 == 0:
+            least, greatest = max(0, least - most), greatest - few
+        else:
+            least, greatest = least + few, min(many, greatest + most)
+        ranges.append((least, greatest))
+    return ranges[::-1]
+
+
+def times_of_walk(stand, bounds, ranges):
+    """How often the walk from the stand on punches each cell: as seldom as can be within the ranges."""
+    times = []
+    for cell, (few, _) in enumerate(bounds):
+        least, greatest = ranges[cell + 1]
+        times.append(max(few, least - stand) if cell % 2 == 0 else max(few, stand - greatest))
+        stand = next_stand(stand, cell, times[cell])
+    return times
 
 
 def next_stand(stand, cell, times):
@@ -102,10 +138,6 @@ def punches_of_walk(stand, times, many):
     return punches
 
 
-def _cell_without_pass(strip, wish):
-    return next((cell for cell in wish if strip[cell][1] == 0), None)
-
-
 def _greatest_worth(bounds):
     """The greatest worth of any stretch, but nought where none is above it."""
     best = 0
@@ -116,17 +148,3 @@ def _greatest_worth(bounds):
             ending = max(0, ending + (few if cell % 2 == parity else -most))
             best = max(best, ending)
     return best
-
-
-def _ranges_of_stands(bounds, many):
-    """Ahead of each cell, and behind the last, the least and the greatest stand from which the walk can go on."""
-    least, greatest = 0, many
-    ranges = [(least, greatest)]
-    for cell in range(len(bounds) - 1, -1, -1):
-        few, most = bounds[cell]
-        if cell % 2 == 0:
-            least, greatest = max(0, least - most), greatest - few
-        else:
-            least, greatest = least + few, min(many, greatest + most)
-        ranges.append((least, greatest))
-    return ranges[::-1]

@@ -3,17 +3,25 @@
 import copy
 import unittest
 
-from pleatpunch.errors import NoList, NoWish, TooMany
+from pleatpunch.errors import NoFolds, NoList, NoWish, TooMany
+from pleatpunch.far import far_fewest, far_tight
 from pleatpunch.foldings import cells_at
+from pleatpunch.paper import Paper
 from pleatpunch.punches import all_foldings, can_be, counted, creased, least_folding, odd_ones, ways
+from pleatpunch.rings import (
+    is_ring_folding, is_ring_plan, ring_can_be, ring_counted, ring_fewest, ring_least_folding, ring_places, ring_plan,
+    ring_tight, ring_worth)
 from pleatpunch.seen import fewest_seen, made
+from pleatpunch.sessions import session
 from pleatpunch.strips import read
 from pleatpunch.wear import all_tight, cheaper, dearer, helpful
 from pleatpunch.wishes import fewest, is_plan, plan, tight, worth
 from reckoning import some_strips, some_wish
 
 STRIP = read("3 0o 1 2o 1 1 0 4")
+RING = read("3 0o 1 2o 1 1 0 4o")
 LONG = read(" ".join(["1 9 2o 0 1o 1 0o 3 1 5"] * 20))
+LONG_RING = read(" ".join(["1 9 2o 4 1o 1 0o 3o 1 5"] * 20))
 LONG_WISH = [cell for cell in range(200) if cell % 10 in (0, 5, 8)]
 
 # Function, arguments by their names, what is told.
@@ -37,6 +45,22 @@ CALLS = [
     (fewest_seen, {"counts": [1, 0, 2]}, 3),
     (made, {"counts": [1, 1, 1], "many": 1}, [[0, 1, 2]]),
     (made, {"counts": [1, 1, 1], "many": 3}, [[0], [1], [2]]),
+    (is_ring_folding, {"many": 6, "folds": [0, 3]}, True),
+    (ring_places, {"many": 6, "folds": [0, 3]}, [0, 0, -1, -2, -2, -1]),
+    (ring_can_be, {"many": 10, "cells": [1, 4, 5, 8]}, True),
+    (ring_least_folding, {"many": 10, "cells": [1, 4, 5, 8]}, [2, 4, 6, 9]),
+    (ring_counted, {"many": 10, "cells": [4, 9]}, 4),
+    (ring_fewest, {"ring": RING, "wish": [0, 2, 4]}, 2),
+    (ring_plan, {"ring": read("1 1 1 1"), "wish": [0, 3]}, [[0, 3]]),
+    (ring_tight, {"ring": RING, "wish": [0, 2, 4]}, ("arc", 0, 3, 0)),
+    (ring_tight, {"ring": read("1 1 0 1"), "wish": [0, 2]}, ("torn", 2)),
+    (ring_tight, {"ring": read("1 1 0 1"), "wish": [1, 3]}, ("round", 1)),
+    (ring_worth, {"ring": RING, "wish": [0, 2, 4], "stretch": ("arc", 4, 7, 0)}, -1),
+    (ring_worth, {"ring": RING, "wish": [0, 2, 4], "stretch": ("round", 0)}, -3),
+    (is_ring_plan, {"ring": RING, "wish": [0, 2, 4], "plan": [[0, 3, 4, 7], [2, 7]]}, True),
+    (far_fewest, {"runs": [("w.", 10 ** 29), ("ow", 2)]}, 10 ** 29),
+    (far_tight, {"runs": [("w.", 10 ** 29), ("ow", 2)]}, (0, 2 * 10 ** 29 - 2, 0)),
+    (session, {"rows": "new 3 1\nstrip"}, "ok\n1 1 1"),
 ]
 # Function, arguments, what is told; then the argument that is changed in place, its other items, what is told then.
 CHANGES = [
@@ -66,6 +90,24 @@ CHANGES = [
     (helpful, [read("1 9 1 2"), [0, 2]], [1], 0, read("1 9o 1"), []),
     (fewest_seen, [[1, 0, 2]], 3, 0, [1, 1], 1),
     (made, [[1, 1, 1], 1], [[0, 1, 2]], 0, [0, 1], [[1]]),
+    (is_ring_folding, [6, [0, 3]], True, 1, [0, 4], False),
+    (ring_places, [6, [0, 3]], [0, 0, -1, -2, -2, -1], 1, [2, 5], [0, 1, 2, 2, 1, 0]),
+    (ring_can_be, [10, [1, 4]], True, 1, [1, 5], False),
+    (ring_least_folding, [10, [1, 4]], [2, 7], 1, [0, 9], [4, 9]),
+    (ring_counted, [10, [4, 9]], 4, 1, [0, 9], 14),
+    (ring_fewest, [RING, [0, 2, 4]], 2, 1, [0], 1),
+    (ring_fewest, [RING, [0, 2, 4]], 2, 0, read("1 1o 1 1o 1 1o"), 1),
+    (ring_plan, [read("1 1 1 1"), [0, 3]], [[0, 3]], 1, [1, 2], [[1, 2]]),
+    (ring_plan, [read("1 1 1 1"), [0, 3]], [[0, 3]], 0, read("1 1 1 0"), None),
+    (ring_tight, [RING, [0, 2, 4]], ("arc", 0, 3, 0), 1, [6], ("torn", 6)),
+    (ring_tight, [RING, [0, 2, 4]], ("arc", 0, 3, 0), 0, read("1 1o 1 1 1 1"), ("round", 0)),
+    (ring_worth, [RING, [0, 2, 4], ("round", 0)], -3, 1, [0], -5),
+    (ring_worth, [RING, [0, 2, 4], ("arc", 7, 4, 0)], -2, 0, read("1 1 1 1 1 1 1 1"), 2),
+    (is_ring_plan, [RING, [0, 2, 4], [[0, 3, 4, 7], [2, 7]]], True, 1, [0, 4, 5], False),
+    (is_ring_plan, [RING, [0, 2, 4], [[0, 3, 4, 7], [2, 7]]], True, 2, [[0, 3, 4, 7]], False),
+    (is_ring_plan, [RING, [0, 2, 4], [[0, 3, 4, 7], [2, 7]]], True, 0, read("1 1 1 1 1 1 1 1"), False),
+    (far_fewest, [[("w.", 5)]], 5, 0, [("w", 5)], 1),
+    (far_tight, [[("w.", 5)]], (0, 8, 0), 0, [("o.", 5)], None),
 ]
 
 
@@ -122,7 +164,12 @@ class AskingTest(unittest.TestCase):
                 (fewest, [STRIP, [1]], NoWish), (plan, [STRIP, [2, 0]], NoWish), (tight, [STRIP, [0, 0]], NoWish),
                 (worth, [STRIP, [8], (0, 1, 0)], NoWish), (is_plan, [STRIP, [-1], [[0]]], NoWish),
                 (all_tight, [STRIP, [1]], NoWish), (cheaper, [STRIP, [1]], NoWish), (dearer, [STRIP, [1]], NoWish),
-                (helpful, [STRIP, [1]], NoWish), (all_tight, [[(False, 1)] * 200, [99]], TooMany)):
+                (helpful, [STRIP, [1]], NoWish), (all_tight, [[(False, 1)] * 200, [99]], TooMany),
+                (ring_places, [6, [0, 4]], NoFolds), (ring_least_folding, [6, [4, 1]], NoList),
+                (ring_counted, [6, [0]], NoList), (ring_fewest, [RING, [1]], NoWish),
+                (ring_plan, [RING, [2, 0]], NoWish), (ring_tight, [RING, [0, 0]], NoWish),
+                (ring_worth, [RING, [8], ("round", 0)], NoWish),
+                (is_ring_plan, [RING, [-1], [[0]]], NoWish)):
             kept = copy.deepcopy(arguments)
             self.assertRaises(error, function, *arguments)
             self.assertEqual(arguments, kept)
@@ -141,7 +188,7 @@ class AskingTest(unittest.TestCase):
 
     def test_told_lists_of_long_answers(self):
         for told in (all_foldings(23, [5, 12, 17]), ways(200, [[0]] * 400), made([3] * 200, 300),
-                     plan(LONG, LONG_WISH)):
+                     plan(LONG, LONG_WISH), ring_plan(LONG_RING, LONG_WISH)):
             places = lists_within(told)
             self.assertGreater(len(places), 2)
             self.assertEqual(len(places), len(set(places)))
@@ -177,6 +224,16 @@ class AskingTest(unittest.TestCase):
         for cells in plan(LONG, LONG_WISH):
             self.assertIs(can_be(200, cells), True)
         self.assertEqual(len(ways(200, plan(LONG, LONG_WISH))), fewest(LONG, LONG_WISH))
+        self.assertEqual(ring_worth(LONG_RING, LONG_WISH, ring_tight(LONG_RING, LONG_WISH)),
+                         ring_fewest(LONG_RING, LONG_WISH))
+        for cells in ring_plan(LONG_RING, LONG_WISH):
+            self.assertIs(is_ring_folding(200, ring_least_folding(200, cells)), True)
+        self.assertIs(is_ring_plan(LONG_RING, LONG_WISH, ring_plan(LONG_RING, LONG_WISH)), True)
+        paper = Paper(200, 9)
+        for cells, (folds, place) in zip(plan(LONG, LONG_WISH), ways(200, plan(LONG, LONG_WISH))):
+            self.assertEqual(paper.punch(folds, place), cells)
+        self.assertEqual(fewest_seen(paper.counts()), fewest(LONG, LONG_WISH))
+        self.assertEqual(paper.fewest([1]), fewest(paper.strip(), [1]))
 
 
 class WholeTest(unittest.TestCase):
@@ -210,6 +267,35 @@ class WholeTest(unittest.TestCase):
                     strip = self.punched(strip, wish)
                     # Some cells are patched: whole again, with the passes that are left.
                     strip = [(holed and cell % 3 != again, left) for cell, (holed, left) in enumerate(strip)]
+
+    def ring_punched(self, ring, wish):
+        """The ring after the plan of the wish, each list folded by its least folding and punched at its place."""
+        times = [0] * len(ring)
+        for cells in ring_plan(ring, wish):
+            laid = ring_places(len(ring), ring_least_folding(len(ring), cells))
+            self.assertEqual([cell for cell in range(len(ring)) if laid[cell] == laid[cells[0]]], cells)
+            for cell in cells:
+                times[cell] += 1
+        punched = [(holed or often > 0, left - often) for (holed, left), often in zip(ring, times)]
+        self.assertGreaterEqual(min(left for _, left in punched), 0)
+        self.assertEqual([cell for cell in range(len(ring)) if punched[cell][0] and not ring[cell][0]], wish)
+        return punched
+
+    def test_wish_after_wish_on_a_ring(self):
+        done = 0
+        for many, most, times in ((2, 3, 10), (6, 4, 40), (16, 9, 20), (50, 30, 4), (200, 60, 1)):
+            for at, ring in enumerate(some_strips(many, most, times, 13)):
+                for again in range(4):
+                    wish = some_wish(ring, 0.3, at + again)
+                    told = ring_tight(ring, wish)
+                    if ring_fewest(ring, wish) is None:
+                        self.assertEqual(told[0], "round")
+                        self.assertGreater(ring_worth(ring, wish, told), 0)
+                        continue
+                    self.assertEqual(len(ring_plan(ring, wish)), ring_worth(ring, wish, told) if wish else 0)
+                    ring = self.ring_punched(ring, wish)
+                    done += 1
+        self.assertGreater(done, 100)
 
 
 if __name__ == "__main__":

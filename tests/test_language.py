@@ -44,7 +44,7 @@ BARRED = {
 BARRED_FILES = {"test", "tests", "testing", "site", "conftest", "sitecustomize", "usercustomize"} | BUILTINS | BARRED
 STATEMENTS = (
     ast.FunctionDef, ast.ClassDef, ast.Assign, ast.AugAssign, ast.If, ast.While, ast.For, ast.Return, ast.Break,
-    ast.Continue, ast.Pass, ast.Raise, ast.Assert, ast.Delete, ast.Try, ast.ImportFrom, ast.Expr)
+    ast.Continue, ast.Pass, ast.Raise, ast.Assert, ast.Delete, ast.Try, ast.ImportFrom, ast.Expr, ast.Match)
 EXPRESSIONS = (
     ast.Constant, ast.Name, ast.Attribute, ast.Subscript, ast.Slice, ast.Call, ast.Starred, ast.keyword, ast.BinOp,
     ast.UnaryOp, ast.BoolOp, ast.Compare, ast.IfExp, ast.List, ast.Tuple, ast.Dict, ast.Set, ast.ListComp,
@@ -52,7 +52,7 @@ EXPRESSIONS = (
 PARTS = (
     ast.Module, ast.alias, ast.arguments, ast.arg, ast.ExceptHandler, ast.expr_context, ast.boolop, ast.unaryop,
     ast.cmpop, ast.Add, ast.Sub, ast.Mult, ast.FloorDiv, ast.Mod, ast.Pow, ast.LShift, ast.RShift, ast.BitOr,
-    ast.BitXor, ast.BitAnd)
+    ast.BitXor, ast.BitAnd, ast.match_case, ast.MatchSequence, ast.MatchStar, ast.MatchAs, ast.MatchValue)
 
 
 def sources():
@@ -207,7 +207,7 @@ def name_faults(tree, text):
                 yield f"L8: {symbol.get_name()}"
 
 
-def call_faults(tree):
+def call_faults(tree, methods):
     """L18, L19, L20, L22, L25: what is called and raised, with which keywords; is."""
     own = [name for name in bound_at_top(tree) if name not in BUILTINS]
     for node in ast.walk(tree):
@@ -215,7 +215,8 @@ def call_faults(tree):
             keywords = {keyword.arg for keyword in node.keywords}
             if called(node) in BUILTINS and not keywords <= KEYWORDS.get(called(node), set()):
                 yield f"L22: line {node.lineno}"
-            if isinstance(node.func, ast.Attribute) and (node.func.attr not in METHODS or keywords):
+            if isinstance(node.func, ast.Attribute) \
+                    and (node.func.attr not in METHODS | methods or keywords and node.func.attr in METHODS):
                 yield f"L25: {node.func.attr}"
             if not isinstance(node.func, (ast.Name, ast.Attribute)):
                 yield f"L7: a call, line {node.lineno}"
@@ -232,6 +233,50 @@ def call_faults(tree):
                 constant = isinstance(other, ast.Constant) and other.value in (None, True, False)
                 if isinstance(sign, (ast.Is, ast.IsNot)) and not constant:
                     yield f"L20: line {node.lineno}"
+
+
+def own_methods(others):
+    """The names of the methods that the classes of the package define, but those of double underscores."""
+    return {row.name for text in others.values() for node in ast.walk(ast.parse(text)) if isinstance(node, ast.ClassDef)
+            for row in node.body if isinstance(row, ast.FunctionDef) and not row.name.startswith("__")}
+
+
+def captures_of(part):
+    return [node.name for node in ast.walk(part) if isinstance(node, (ast.MatchAs, ast.MatchStar)) and node.name]
+
+
+def match_faults(tree):
+    """L6: patterns of literals and names alone, the one that takes everything last; names read in their own case."""
+    for function in ast.walk(tree):
+        if not isinstance(function, ast.FunctionDef):
+            continue
+        cases = [case for node in ast.walk(function) if isinstance(node, ast.Match) for case in node.cases]
+        captured = {name for case in cases for name in captures_of(case.pattern)}
+        inside = [node for case in cases for node in ast.walk(case)]
+        bound = {node.id for node in ast.walk(function)
+                 if isinstance(node, ast.Name) and not isinstance(node.ctx, ast.Load)}
+        bound |= {argument.arg for argument in function.args.args}
+        if captured & (bound | BUILTINS | BARRED):
+            yield f"L6: a captured name in {function.name}"
+        for node in ast.walk(function):
+            if isinstance(node, ast.Name) and node.id in captured and node not in inside:
+                yield f"L6: {node.id} is read outside of its case, line {node.lineno}"
+        for case in cases:
+            names = captures_of(case.pattern)
+            read = {node.id for node in ast.walk(case) if isinstance(node, ast.Name)}
+            if len(set(names)) < len(names) or read & captured - set(names):
+                yield f"L6: a name of another case in {function.name}"
+            if case.guard is not None and any(isinstance(node, ast.Call) for node in ast.walk(case.guard)):
+                yield f"L6: a call in a guard in {function.name}"
+            for node in ast.walk(case.pattern):
+                if isinstance(node, ast.MatchValue) and not isinstance(node.value, ast.Constant):
+                    yield f"L6: a pattern, line {node.lineno}"
+    for node in ast.walk(tree):
+        if isinstance(node, ast.Match):
+            everything = [isinstance(case.pattern, ast.MatchAs) and case.pattern.pattern is None and case.guard is None
+                          for case in node.cases]
+            if any(everything[:-1]):
+                yield f"L6: a case behind the one that takes everything, line {node.lineno}"
 
 
 def iteration_faults(tree):
@@ -305,18 +350,36 @@ def changed_by(node):
     return None
 
 
-def class_faults(tree):
-    """L5, L18: classes are refusals alone, under one class of Python's own."""
+def class_faults(tree, others):
+    """L4, L5, L18, L26: what stands in classes, what their methods and attributes are called, and default values."""
+    stored = {node.attr for text in others.values() for node in ast.walk(ast.parse(text))
+              if isinstance(node, ast.Attribute) and isinstance(node.ctx, ast.Store)}
     for node in ast.walk(tree):
         if isinstance(node, ast.ClassDef):
             names = [row.name for row in node.body if isinstance(row, ast.FunctionDef)]
-            if node not in tree.body or len(names) != len(set(names)) or node.keywords:
+            if node not in tree.body or len(names) != len(set(names)) or node.keywords or len(node.bases) > 1:
                 yield f"L5: {node.name}"
+            if any(not isinstance(row, ast.FunctionDef) and not isinstance(row, ast.Expr) for row in node.body):
+                yield f"L5: a row of {node.name}"
             if any(isinstance(base, ast.Name) and base.id in ("StopIteration", "AttributeError")
                    for base in node.bases):
                 yield f"L18: {node.name}"
+            if set(names) & {part.attr for part in ast.walk(node)
+                             if isinstance(part, ast.Attribute) and isinstance(part.ctx, ast.Store)}:
+                yield f"L18: a method and an attribute of {node.name}"
         if isinstance(node, ast.FunctionDef) and node.name.startswith("__") and node.name != "__init__":
             yield f"L5: {node.name}"
+        if isinstance(node, ast.FunctionDef) and node.name == "__init__" \
+                and any(isinstance(part, ast.Return) for part in ast.walk(node)):
+            yield "L28: __init__ returns"
+        if isinstance(node, ast.Attribute) and isinstance(node.ctx, ast.Load) \
+                and node.attr not in stored | METHODS | own_methods(others):
+            yield f"L18: {node.attr} is no attribute"
+        if isinstance(node, ast.Attribute) and not isinstance(node.ctx, ast.Load) \
+                and (node.attr in METHODS | {"args", "encode", "decode", "hex", "format"}
+                     or not isinstance(node.value, ast.Name)
+                     or not re.fullmatch("_?[a-z][a-z0-9_]*", node.attr)):
+            yield f"L18, L26: the attribute {node.attr}"
         if isinstance(node, ast.arguments):
             for value in [*node.defaults, *[value for value in node.kw_defaults if value]]:
                 if not isinstance(value, ast.Constant):
@@ -327,7 +390,8 @@ def faults_of(name, text, others):
     tree = ast.parse(text)
     return [
         *file_faults(name, text), *form_faults(tree), *import_faults(tree, others), *name_faults(tree, text),
-        *call_faults(tree), *iteration_faults(tree), *changing_faults(tree), *class_faults(tree)]
+        *call_faults(tree, own_methods({**others, name: text})), *match_faults(tree), *iteration_faults(tree),
+        *changing_faults(tree), *class_faults(tree, {**others, name: text})]
 
 
 # A row of each rule that the look must find, in a file of its own.
@@ -359,7 +423,21 @@ BROKEN = [
     ("L24", "def f(a):\n    b = set(a)\n    b |= {1}\n"), ("L24", "def f(a):\n    b = {1}\n    return [x for x in b]\n"),
     ("L25", "def f(a):\n    return a.format(1)\n"), ("L25", "def f(a):\n    return a.encode()\n"),
     ("L27", "def f(a):\n    return a ** a\n"), ("L27", "A = 'x%s'\n"), ("L27", "A = '\\x41'\n"),
-    ("L5", "class A:\n    def __hash__(self):\n        return 1\n"),
+    ("L5", "class A:\n    def __hash__(self):\n        return 1\n"), ("L5", "class A:\n    a = [1]\n"),
+    ("L5", "def f():\n    class A:\n        pass\n    return A()\n"),
+    ("L18", "class A:\n    def __init__(self):\n        self.f = 1\n\n    def f(self):\n        return 1\n"),
+    ("L18", "def f(a):\n    return a.nowhere\n"), ("L18", "def f(a):\n    a.b.c = 1\n"),
+    ("L26", "class A:\n    def __init__(self):\n        self.items = 1\n"),
+    ("L28", "class A:\n    def __init__(self):\n        return\n"),
+    ("L6", "def f(a):\n    match a:\n        case b:\n            pass\n    return b\n"),
+    ("L6", "def f(a):\n    match a:\n        case [1, a]:\n            return a\n"),
+    ("L6", "def f(a):\n    match a:\n        case [max]:\n            return max\n"),
+    ("L6", "def f(a):\n    match a:\n        case [b]:\n            pass\n        case [c]:\n            return b\n"),
+    ("L6", "def f(a):\n    match a:\n        case [b] if len(b):\n            return b\n"),
+    ("L6", "def f(a):\n    match a:\n        case {1: b}:\n            return b\n"),
+    ("L6", "def f(a):\n    match a:\n        case a.b:\n            return 1\n"),
+    ("L25", "def f(a):\n    return a.nowhere()\n"), ("L25", "def f(a):\n    return a.split(sep=' ')\n"),
+    ("L23", "def g(a):\n    return a\n\n\ndef f(a):\n    return g(range(a))\n"),
 ]
 
 

@@ -25,6 +25,17 @@ INTERFACE = {
         "worth": ["strip", "wish", "stretch"], "is_plan": ["strip", "wish", "plan"]},
     "wear.py": {name: ["strip", "wish"] for name in ("all_tight", "cheaper", "dearer", "helpful")},
     "seen.py": {"fewest_seen": ["counts"], "made": ["counts", "many"]},
+    "paper.py": {"Paper": {
+        "__init__": ["many", "left"], "punch": ["folds", "place"], "patch": ["cell"], "do": ["wish"], "mark": [],
+        "undo": ["mark"], "strip": [], "fewest": ["wish"], "counts": []}},
+    "rings.py": {
+        "is_ring_folding": ["many", "folds"], "ring_can_be": ["many", "cells"],
+        "is_ring_plan": ["ring", "wish", "plan"], "ring_places": ["many", "folds"],
+        "ring_least_folding": ["many", "cells"], "ring_counted": ["many", "cells"],
+        "ring_fewest": ["ring", "wish"], "ring_plan": ["ring", "wish"], "ring_tight": ["ring", "wish"],
+        "ring_worth": ["ring", "wish", "stretch"]},
+    "far.py": {"far_fewest": ["runs"], "far_tight": ["runs"]},
+    "sessions.py": {"session": ["rows"]},
 }
 LIBRARY = ("heapq", "math", "itertools", "collections")
 
@@ -38,18 +49,29 @@ def file_names():
     return sorted(name for name in os.listdir(PACKAGE) if name != "__pycache__")
 
 
+def arguments_of(rows):
+    """Of each function that is defined in the rows the names of its arguments."""
+    return {row.name: [argument.arg for argument in row.args.args] for row in rows if isinstance(row, ast.FunctionDef)}
+
+
 class InterfaceTest(unittest.TestCase):
     def test_each_name_is_defined_in_its_file(self):
         for name, listed in INTERFACE.items():
             rows = ast.parse(source(name)).body
-            classes = [row.name for row in rows if isinstance(row, ast.ClassDef)]
-            functions = {row.name: [argument.arg for argument in row.args.args]
-                         for row in rows if isinstance(row, ast.FunctionDef)}
+            classes = {row.name: row for row in rows if isinstance(row, ast.ClassDef)}
+            functions = arguments_of(rows)
             for word, arguments in listed.items():
-                if arguments is None:
-                    self.assertIn(word, classes)
-                else:
+                if isinstance(arguments, list):
                     self.assertEqual(functions.get(word), arguments, word)
+                else:
+                    self.assertIn(word, classes)
+                if isinstance(arguments, dict):
+                    methods = arguments_of(classes[word].body)
+                    for method, others in arguments.items():
+                        self.assertEqual(methods.get(method), ["self", *others], method)
+                    # Nothing else is shown, and nothing is inherited.
+                    self.assertEqual([one for one in methods if one not in arguments and not one.startswith("_")], [])
+                    self.assertEqual(classes[word].bases, [])
 
 
 class FormTest(unittest.TestCase):
